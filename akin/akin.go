@@ -23,18 +23,34 @@ func Check(formula string) (Errno, int) {
 
 // Parts tells a formula's terms and claims (P4).
 func Parts(formula string) (string, Errno) {
-	p, errno, _ := read(formula)
+	f, errno, _ := read(formula)
 	if errno != OK {
 		return "", errno
 	}
-	return p.text(), OK
+	return f.partsText(), OK
 }
 
 // Holds tells whether a written case is a model (P5).
-func Holds(formula string, model string) (bool, Errno) { return false, OK }
+func Holds(formula string, model string) (bool, Errno) {
+	f, errno, _ := read(formula)
+	if errno != OK {
+		return false, errno
+	}
+	s, ok := f.situation(model)
+	if !ok {
+		return false, ErrModel
+	}
+	return f.isModel(s), OK
+}
 
 // Count tells how many models a formula has (P6).
-func Count(formula string) (int, Errno) { return 0, OK }
+func Count(formula string) (int, Errno) {
+	f, errno, _ := read(formula)
+	if errno != OK {
+		return 0, errno
+	}
+	return f.countModels(), OK
+}
 
 // Decide tells whether a formula has a model, and one (P7).
 func Decide(formula string, way int, tape string) (bool, string, Errno) { return false, "", OK }

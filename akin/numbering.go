@@ -1,6 +1,11 @@
 package akin
 
-import "iter"
+import (
+	"cmp"
+	"iter"
+	"maps"
+	"slices"
+)
 
 // numbering keeps keys once, each under the number of keys that came before it.
 type numbering[K comparable] map[K]int
@@ -15,16 +20,24 @@ func (n numbering[K]) number(key K) int {
 	return next
 }
 
-// inOrder goes through the keys by their numbers. The keys are laid out by
-// number first, so that the order in which the map gives them is not seen.
-func (n numbering[K]) inOrder() iter.Seq[K] {
-	return func(yield func(K) bool) {
-		keys := make([]K, len(n))
-		for key, at := range n {
-			keys[at] = key
-		}
+// list tells the keys, each at the place that is its number.
+func (n numbering[K]) list() []K {
+	list := make([]K, 0, len(n))
+	for key := range inOrder(n, func(_ K, number int) int { return number }) {
+		list = append(list, key)
+	}
+	return list
+}
+
+// inOrder goes through a map, the entry of the least rank first. No two entries
+// may have one rank, or the order in which the map gives them would be seen.
+func inOrder[K comparable, V any, R cmp.Ordered](m map[K]V, rank func(K, V) R) iter.Seq2[K, V] {
+	return func(yield func(K, V) bool) {
+		keys := slices.SortedFunc(maps.Keys(m), func(a, b K) int {
+			return cmp.Compare(rank(a, m[a]), rank(b, m[b]))
+		})
 		for _, key := range keys {
-			if !yield(key) {
+			if !yield(key, m[key]) {
 				return
 			}
 		}

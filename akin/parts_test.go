@@ -53,30 +53,3 @@ func TestPartsTellsTheErrorOfCheckAndNoText(t *testing.T) {
 		}
 	}
 }
-
-// P2: what was asked in between, a refusal or other terms, leaves no trace.
-func TestNothingIsKeptFromCallToCall(t *testing.T) {
-	asked := []string{"a=b", times(7) + "=a", "b=a", "P(f(c))", "((P(a)&P(b))&(Q(a)&Q(b)))", nested(9), "a=", times(6) + "=a", "", "e=d"}
-	type answer struct {
-		text         string
-		errno, check akin.Errno
-		place        int
-	}
-	ask := func(formula string) (a answer) {
-		a.text, a.errno = akin.Parts(formula)
-		a.check, a.place = akin.Check(formula)
-		return a
-	}
-	first := make([]answer, len(asked))
-	for i, formula := range asked {
-		first[i] = ask(formula)
-	}
-	for round := range 20 {
-		for i := range asked {
-			at := (len(asked) - 1 - i + round) % len(asked)
-			if got := ask(asked[at]); got != first[at] {
-				t.Errorf("P2: of %q first %v, then %v", asked[at], first[at], got)
-			}
-		}
-	}
-}

@@ -11,26 +11,28 @@ const (
 // reader reads a formula from the left, one byte ahead: the grammar needs no
 // more, so the first byte that is refused is the first that cannot stand there.
 type reader struct {
-	text  string
-	at    int
-	depth int
-	fault Errno
-	parts parts
+	text   string
+	at     int
+	depth  int
+	fault  Errno
+	terms  numbering[term]
+	claims numbering[claim]
+	pieces numbering[piece]
 }
 
 // read takes a formula apart, or tells the error and the place that Check tells.
-func read(formula string) (parts, Errno, int) {
-	if len(formula) > maxText {
-		return parts{}, ErrLong, 0
+func read(text string) (formula, Errno, int) {
+	if len(text) > maxText {
+		return formula{}, ErrLong, 0
 	}
-	r := reader{text: formula, parts: parts{terms: numbering[term]{}, claims: numbering[claim]{}}}
-	if !r.formula() || !r.end() {
-		return parts{}, r.fault, r.at
+	r := reader{text: text, terms: numbering[term]{}, claims: numbering[claim]{}, pieces: numbering[piece]{}}
+	if _, ok := r.formula(); !ok || !r.end() {
+		return formula{}, r.fault, r.at
 	}
-	if len(r.parts.terms) > maxTerms || len(r.parts.claims) > maxClaims {
-		return parts{}, ErrMany, 0
+	if len(r.terms) > maxTerms || len(r.claims) > maxClaims {
+		return formula{}, ErrMany, 0
 	}
-	return r.parts, OK, 0
+	return formula{r.terms.list(), r.claims.list(), r.pieces.list()}, OK, 0
 }
 
 // peek tells the next byte. The text's end is told as 0, which is refused
@@ -81,17 +83,43 @@ func (r *reader) end() bool {
 	return true
 }
 
-func (r *reader) formula() bool {
-	switch r.peek() {
+// formula tells a piece's number. Like a term, it is numbered when it has been
+// read whole.
+func (r *reader) formula() (int, bool) {
+	p := piece{sign: r.peek()}
+	ok := true
+	switch p.sign {
 	case '!':
 		r.at++
-		return r.formula()
+		p.first, ok = r.formula()
 	case '(':
-		return r.open() && r.formula() && r.joint() && r.formula() && r.shut()
+		p, ok = r.joined()
 	case 'P', 'Q':
-		return r.claim()
+		r.at++
+		p.first, ok = r.claim(p.sign)
+	default:
+		p, ok = r.equality()
 	}
-	return r.equality()
+	if !ok {
+		return 0, false
+	}
+	return r.pieces.number(p), true
+}
+
+// joined reads two formulas in brackets and the sign between them.
+func (r *reader) joined() (p piece, ok bool) {
+	if !r.open() {
+		return p, false
+	}
+	if p.first, ok = r.formula(); !ok {
+		return p, false
+	}
+	p.sign = r.peek()
+	if !r.joint() {
+		return p, false
+	}
+	p.second, ok = r.formula()
+	return p, ok && r.shut()
 }
 
 // joint goes past the sign between two formulas.
@@ -104,22 +132,22 @@ func (r *reader) joint() bool {
 	return r.refuse(ErrForm)
 }
 
-func (r *reader) claim() bool {
-	letter := r.peek()
-	r.at++
+// claim tells a claim's number, its letter being read.
+func (r *reader) claim(letter byte) (int, bool) {
 	of, ok := r.argument()
-	if ok {
-		r.parts.claims.number(claim{letter, of})
+	if !ok {
+		return 0, false
 	}
-	return ok
+	return r.claims.number(claim{letter, of}), true
 }
 
-func (r *reader) equality() bool {
-	if _, ok := r.term(); !ok || !r.take('=') {
-		return false
+func (r *reader) equality() (p piece, ok bool) {
+	p.sign = '='
+	if p.first, ok = r.term(); !ok || !r.take('=') {
+		return p, false
 	}
-	_, ok := r.term()
-	return ok
+	p.second, ok = r.term()
+	return p, ok
 }
 
 // term tells a term's number. It is numbered when it has been read whole, as
@@ -142,7 +170,7 @@ func (r *reader) term() (int, bool) {
 	if !ok {
 		return 0, false
 	}
-	return r.parts.terms.number(t), true
+	return r.terms.number(t), true
 }
 
 // argument tells the number of the one term in brackets.

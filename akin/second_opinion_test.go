@@ -108,6 +108,14 @@ func compare(t *testing.T, text string) {
 	if got, gotErrno := akin.Parts(text); got != want || gotErrno != errno {
 		t.Errorf("P4: Parts(%q) = %q, %d, want %q, %d", text, got, gotErrno, want, errno)
 	}
+	if errno == akin.OK {
+		errno = akin.ErrModel
+	} else if got, gotErrno := akin.Count(text); got != 0 || gotErrno != errno {
+		t.Errorf("P6: Count(%q) = %d, %d, want 0, %d", text, got, gotErrno, errno)
+	}
+	if got, gotErrno := akin.Holds(text, ""); got || gotErrno != errno {
+		t.Errorf("P5: Holds(%q, no text) = %v, %d, want false, %d", text, got, gotErrno, errno)
+	}
 }
 
 // Every text of few bytes, of the bytes that matter.

@@ -16,18 +16,29 @@ type claim struct {
 	of     int
 }
 
-// parts are a formula's terms, numbered in the order in which they end, and
-// its claims, numbered in the order in which they stand there.
-type parts struct {
-	terms  numbering[term]
-	claims numbering[claim]
+// piece is a formula that stands within the formula, or the whole: its sign,
+// and the numbers of what it is put together of. Those are terms for '=', a
+// claim for a property's letter, and pieces for any other sign.
+type piece struct {
+	sign          byte
+	first, second int
 }
 
-// text writes the terms and the claims as Parts tells them.
-func (p parts) text() string {
-	terms := p.termTexts()
-	claims := make([]string, 0, len(p.claims))
-	for c := range p.claims.inOrder() {
+// formula is all that stands in a formula, each once: the terms, in the order
+// in which they end, the claims, in the order in which they stand there, and
+// the pieces, in the order in which they end. So nothing is made of what comes
+// later, and the last piece is the whole formula.
+type formula struct {
+	terms  []term
+	claims []claim
+	pieces []piece
+}
+
+// partsText writes the terms and the claims as Parts tells them.
+func (f formula) partsText() string {
+	terms := f.termTexts()
+	claims := make([]string, 0, len(f.claims))
+	for _, c := range f.claims {
 		claims = append(claims, applied(c.letter, terms[c.of]))
 	}
 	return strings.Join(terms, " ") + "/" + strings.Join(claims, " ")
@@ -35,9 +46,9 @@ func (p parts) text() string {
 
 // termTexts writes each term. A term ends after those within it, so their
 // texts are there already when its own is put together.
-func (p parts) termTexts() []string {
-	texts := make([]string, 0, len(p.terms))
-	for t := range p.terms.inOrder() {
+func (f formula) termTexts() []string {
+	texts := make([]string, 0, len(f.terms))
+	for _, t := range f.terms {
 		switch t.letter {
 		case 'f':
 			texts = append(texts, applied('f', texts[t.first]))
