@@ -53,4 +53,16 @@ func Count(formula string) (int, Errno) {
 }
 
 // Decide tells whether a formula has a model, and one (P7).
-func Decide(formula string, way int, tape string) (bool, string, Errno) { return false, "", OK }
+func Decide(formula string, way int, tape string) (bool, string, Errno) {
+	f, errno, _ := read(formula)
+	switch {
+	case errno != OK:
+		return false, "", errno
+	case way != 0 && way != 1:
+		return false, "", ErrArg
+	case !isTape(tape):
+		return false, "", ErrTape
+	}
+	found, model := f.decide(way, tape)
+	return found, model, OK
+}

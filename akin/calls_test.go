@@ -7,12 +7,20 @@ import (
 	"akin/akin"
 )
 
+// decision is what Decide tells.
+type decision struct {
+	found bool
+	model string
+	errno akin.Errno
+}
+
 // answer is what all calls tell of a formula; a case is asked about too.
 type answer struct {
 	place, count                int
 	text                        string
 	holds                       bool
 	check, parts, model, models akin.Errno
+	decided                     [8]decision
 }
 
 func ask(formula, model string) (a answer) {
@@ -20,6 +28,12 @@ func ask(formula, model string) (a answer) {
 	a.text, a.parts = akin.Parts(formula)
 	a.holds, a.model = akin.Holds(formula, model)
 	a.count, a.models = akin.Count(formula)
+	for i, tape := range []string{"", "7", "9531862047", "x"} {
+		for way := range 2 {
+			d := &a.decided[2*i+way]
+			d.found, d.model, d.errno = akin.Decide(formula, way, tape)
+		}
+	}
 	return a
 }
 
@@ -37,6 +51,9 @@ func TestEachCallTellsTheErrorOfCheckAndNothingElse(t *testing.T) {
 	} {
 		for _, model := range []string{"", "0/", "00/", "0/0", "01234567/", "012/11111", "x", strings.Repeat("0", 50000000)} {
 			want := answer{place: c.place, check: c.errno, parts: c.errno, model: c.errno, models: c.errno}
+			for i := range want.decided {
+				want.decided[i].errno = c.errno
+			}
 			if got := ask(c.formula, model); got != want {
 				t.Errorf("P1: of %.110q and %.20q %v, want %v", c.formula, model, got, want)
 			}

@@ -148,7 +148,7 @@ func allHeld(n int) []string {
 	return all
 }
 
-// judge holds Count and Holds against all cases.
+// judge holds Count, Holds and Decide against all cases.
 func judge(t *testing.T, known map[int][]relation, formula string) {
 	t.Helper()
 	terms, claims := found(formula)
@@ -171,11 +171,12 @@ func judge(t *testing.T, known map[int][]relation, formula string) {
 	if got, errno := akin.Count(formula); got != count || errno != akin.OK {
 		t.Errorf("P6: Count(%q) = %d, %d, want %d", formula, got, errno, count)
 	}
+	decideAlike(t, formula, count > 0)
 }
 
 // All formulas of two atoms of a list, each with and without a not, and those
 // of three that are met on a walk with a fixed stride.
-func TestCountAndHoldsOfManyFormulas(t *testing.T) {
+func TestAllCasesOfManyFormulas(t *testing.T) {
 	atoms := []string{"a=b", "c=b", "f(a)=b", "f(a)=f(b)", "f(f(a))=a", "g(a,b)=g(b,a)", "g(f(a),b)=b", "P(a)", "P(b)", "P(f(b))", "Q(a)", "Q(c)"}
 	signs := []string{"&", "|", ">", "-"}
 	nots := []string{"", "!"}
@@ -202,7 +203,7 @@ func TestCountAndHoldsOfManyFormulas(t *testing.T) {
 	}
 }
 
-func TestCountAndHoldsOfFullFormulas(t *testing.T) {
+func TestAllCasesOfFullFormulas(t *testing.T) {
 	known := map[int][]relation{}
 	for _, formula := range []string{
 		fullNames, fullTower, "(" + times(6) + "=a>" + times(4) + "=f(a))",

@@ -110,8 +110,13 @@ func compare(t *testing.T, text string) {
 	}
 	if errno == akin.OK {
 		errno = akin.ErrModel
-	} else if got, gotErrno := akin.Count(text); got != 0 || gotErrno != errno {
-		t.Errorf("P6: Count(%q) = %d, %d, want 0, %d", text, got, gotErrno, errno)
+	} else {
+		if got, gotErrno := akin.Count(text); got != 0 || gotErrno != errno {
+			t.Errorf("P6: Count(%q) = %d, %d, want 0, %d", text, got, gotErrno, errno)
+		}
+		if got, model, gotErrno := akin.Decide(text, 2, "x"); got || model != "" || gotErrno != errno {
+			t.Errorf("P7: Decide(%q, 2, x) = %v, %q, %d, want %d", text, got, model, gotErrno, errno)
+		}
 	}
 	if got, gotErrno := akin.Holds(text, ""); got || gotErrno != errno {
 		t.Errorf("P5: Holds(%q, no text) = %v, %d, want false, %d", text, got, gotErrno, errno)

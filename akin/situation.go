@@ -47,19 +47,24 @@ func (f formula) isModel(s situation) bool {
 	return f.congruent(s.equal) && f.agreed(s) && f.isTrue(s)
 }
 
-// congruent tells whether functions make the same of the same. Two names are
-// never made alike, so all terms can be asked in one way.
+// congruent tells whether functions make the same of the same.
 func (f formula) congruent(equal classes[int]) bool {
-	made := make([]term, 0, len(f.terms))
-	for _, t := range f.terms {
-		made = append(made, term{t.letter, equal.of(t.first), equal.of(t.second)})
-	}
-	for a, b := range alike(made) {
+	for a, b := range alike(f.made(equal)) {
 		if !equal.same(a, b) {
 			return false
 		}
 	}
 	return true
+}
+
+// made tells of which classes each term is made. Two names are never made
+// alike, so all terms can be asked in one way.
+func (f formula) made(equal classes[int]) []term {
+	made := make([]term, 0, len(f.terms))
+	for _, t := range f.terms {
+		made = append(made, term{t.letter, equal.of(t.first), equal.of(t.second)})
+	}
+	return made
 }
 
 // agreed tells whether a property holds of all equal terms or of none.
@@ -68,8 +73,13 @@ func (f formula) agreed(s situation) bool {
 	for _, c := range f.claims {
 		said = append(said, claim{c.letter, s.equal.of(c.of)})
 	}
+	return agree(said, s.holds)
+}
+
+// agree tells whether of claims that are the same all hold or none.
+func agree(said []claim, holds []bool) bool {
 	for a, b := range alike(said) {
-		if s.holds[a] != s.holds[b] {
+		if holds[a] != holds[b] {
 			return false
 		}
 	}
